@@ -1,0 +1,1 @@
+"""Stairlaid: floors laid with stairs, whatever the laying."""

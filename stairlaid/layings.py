@@ -1,0 +1,137 @@
+"""STAIRS and LAYINGS: what is one, its CELLS, its FLOOR, and its NAMES."""
+
+from stairlaid.cells import fit_floor, is_floor
+from stairlaid.errors import NoCell, NoName, Unfit
+from stairlaid.values import fit_size, frozen, is_ascending, is_number, is_pair
+
+
+def is_stair(thing):
+    """Whether thing is a STAIR, of whatever size."""
+    return type(thing) is tuple and len(thing) == 2 and is_pair(thing[0]) and _are_steps(thing[1])
+
+
+def _are_steps(value):
+    return type(value) is tuple and all([is_number(step) and step in (0, 1) for step in value])
+
+
+def fit_stair(stair):
+    """stair with tuples in the place of lists; Unfit() if it is no STAIR."""
+    own = frozen(stair)
+    if not is_stair(own):
+        raise Unfit()
+    return own
+
+
+def size_of(stair):
+    """The size of a STAIR."""
+    return _size(fit_stair(stair))
+
+
+def _size(stair):
+    return len(stair[1]) + 1
+
+
+def foot_of(stair):
+    """The foot of a STAIR: the diagonal of its first CELL."""
+    x, y = fit_stair(stair)[0]
+    return x + y
+
+
+def cells_of(stair):
+    """The tuple of the CELLS of a STAIR, the first one first."""
+    return tuple(_cells(fit_stair(stair)))
+
+
+def _cells(stair):
+    (x, y), steps = stair
+    cells = [(x, y)]
+    for step in steps:
+        x, y = (x, y + 1) if step == 1 else (x + 1, y)
+        cells.append((x, y))
+    return cells
+
+
+def stairs_in(floor, size):
+    """The list, ascending, of all STAIRS of this size that have no CELL but of floor."""
+    own = fit_floor(floor)
+    if fit_size(size) > len(own):
+        return []
+    ways = {cell: [()] for cell in own}
+    for _ in range(size - 1):
+        ways = {cell: _ways_on(ways, cell) for cell in own}
+    # The FLOOR ascends, and so do the ways from each CELL.
+    return [(cell, steps) for cell in own for steps in ways[cell]]
+
+
+def _ways_on(ways, cell):
+    """The steps from cell, ascending, one more than in ways."""
+    x, y = cell
+    right = [(0, *steps) for steps in ways.get((x + 1, y), [])]
+    return right + [(1, *steps) for steps in ways.get((x, y + 1), [])]
+
+
+def is_laying(floor, size, thing):
+    """Whether thing is a LAYING of floor by size."""
+    own = fit_floor(floor)
+    fit_size(size)
+    return _are_stairs(thing, size) and _cells_of_all(thing) == own
+
+
+def _are_stairs(value, size):
+    """Whether value is a set of STAIRS of this size."""
+    if type(value) is not tuple or not all([is_stair(item) for item in value]):
+        return False
+    return is_ascending(value) and all([_size(stair) == size for stair in value])
+
+
+def _cells_of_all(stairs):
+    """The CELLS of these STAIRS, one not greater than the next, each as often as they have it."""
+    return tuple(sorted([cell for stair in stairs for cell in _cells(stair)]))
+
+
+def fit_laying(laying):
+    """laying with tuples in the place of lists; Unfit() if it is no LAYING of whatever FLOOR."""
+    own = frozen(laying)
+    if type(own) is not tuple or len(own) == 0 or not is_stair(own[0]):
+        raise Unfit()
+    # A CELL that two STAIRS have stands twice there, and makes it no FLOOR.
+    if not _are_stairs(own, _size(own[0])) or not is_floor(_cells_of_all(own)):
+        raise Unfit()
+    return own
+
+
+def floor_of(laying):
+    """The FLOOR of a LAYING."""
+    return _cells_of_all(fit_laying(laying))
+
+
+def names(laying):
+    """The tuple of the pairs (NAME, STAIR), ascending, one for each STAIR of laying."""
+    return tuple(_named(fit_laying(laying)))
+
+
+def _named(laying):
+    by_places = sorted([(x + y, x - y, ((x, y), steps)) for (x, y), steps in laying])
+    named, many = [], {}
+    for foot, _, stair in by_places:
+        many[foot] = many.get(foot, 0) + 1
+        named.append(((foot, many[foot] - 1), stair))
+    return named
+
+
+def stair_named(laying, name):
+    """The STAIR of laying with this NAME; NoName(name) if none has it."""
+    own, wanted = fit_laying(laying), frozen(name)
+    stairs = {called: stair for called, stair in _named(own)}
+    if not is_pair(wanted) or wanted not in stairs:
+        raise NoName(wanted)
+    return stairs[wanted]
+
+
+def name_at(laying, cell):
+    """The NAME of the STAIR of laying that has this CELL; NoCell(cell) if none has it."""
+    own, wanted = fit_laying(laying), frozen(cell)
+    called = {square: name for name, stair in _named(own) for square in _cells(stair)}
+    if not is_pair(wanted) or wanted not in called:
+        raise NoCell(wanted)
+    return called[wanted]

@@ -1,0 +1,155 @@
+"""Points [2], [3] and [23]: what holds for all functions alike."""
+
+import copy
+import importlib
+import inspect
+import unittest
+
+from stairlaid.errors import NoCell, NoName, Unfit
+from tests.made import block_of
+
+SLAB = block_of(3, 2)
+FLAT = (((0, 0), (0, 0)), ((0, 1), (0, 0)))
+FAN = (((0, 1), (1,)), ((1, 0), (0,)), ((1, 1), (0,)))
+STAIR = ((4, -1), (0, 1, 1, 0))
+# For each file of the interface its functions, each with its arguments by name and in order.
+CALLS = {
+    "cells": {
+        "is_floor": {"thing": SLAB},
+        "diagonal": {"floor": SLAB, "number": 1},
+        "span": {"floor": SLAB},
+        "can_grow": {"floor": SLAB, "cell": (1, 2)},
+        "grown": {"floor": SLAB, "cell": (1, 2)},
+        "shrunk": {"floor": SLAB, "cell": (1, 1)},
+        "borders": {"floor": SLAB},
+    },
+    "layings": {
+        "is_stair": {"thing": STAIR},
+        "size_of": {"stair": STAIR},
+        "foot_of": {"stair": STAIR},
+        "cells_of": {"stair": STAIR},
+        "stairs_in": {"floor": SLAB, "size": 2},
+        "is_laying": {"floor": SLAB, "size": 3, "thing": FLAT},
+        "floor_of": {"laying": FLAT},
+        "names": {"laying": FAN},
+        "stair_named": {"laying": FAN, "name": (1, 1)},
+        "name_at": {"laying": FAN, "cell": (2, 0)},
+    },
+    "counts": {
+        "counts": {"floor": SLAB, "size": 2},
+        "count": {"floor": SLAB, "size": 2, "foot": 1},
+        "names_of": {"floor": SLAB, "size": 2},
+        "count_bar": {"floor": block_of(3, 3), "size": 4},
+    },
+}
+
+
+def calls():
+    return [(getattr(importlib.import_module(f"stairlaid.{file}"), name), arguments)
+            for file, functions in CALLS.items() for name, arguments in functions.items()]
+
+
+def listed(value, depth):
+    """value with lists in the place of tuples at this depth, from 0; at all depths for None."""
+    if not isinstance(value, tuple):
+        return value
+    items = [listed(item, None if depth is None else depth - 1) for item in value]
+    return items if depth in (None, 0) else tuple(items)
+
+
+def wrong_values():
+    """What is no FLOOR, STAIR, LAYING or size, of whatever kind, nested however deep."""
+    deep, endless = [], []
+    for _ in range(5000):
+        deep = [deep]
+    endless.append(endless)
+    return [None, True, False, 0, -1, 2.0, 0.5, "", "ab", b"ab", (), [], {}, set(), object(), range(3), (None,),
+            ((),), ((0, 0),) * 3, [[0.0, 0]], [[0, 0], {}], ((0, 0), {}), [[[0, 0], ["0"]]], {(0, 0): 1}, deep, endless]
+
+
+class Interface(unittest.TestCase):
+    def test_functions_stand_in_their_files(self):
+        for file, functions in CALLS.items():
+            module = importlib.import_module(f"stairlaid.{file}")
+            for name, arguments in functions.items():
+                function = getattr(module, name)
+                self.assertEqual(function.__module__, module.__name__, name)
+                self.assertEqual(list(inspect.signature(function).parameters), list(arguments), name)
+
+
+class AllFunctions(unittest.TestCase):
+    def test_by_position_and_by_name(self):
+        for function, arguments in calls():
+            told = function(*arguments.values())
+            self.assertEqual(repr(function(**arguments)), repr(told), function)
+            self.assertEqual(repr(function(**dict(reversed(arguments.items())))), repr(told), function)
+
+    def test_lists_in_the_place_of_tuples(self):
+        for function, arguments in calls():
+            told = function(*arguments.values())
+            for depth in (0, 1, 2, None):
+                given = {name: listed(worth, depth) if name != "thing" else worth
+                         for name, worth in arguments.items()}
+                kept = copy.deepcopy(given)
+                self.assertEqual(repr(function(**given)), repr(told), (function, depth))
+                self.assertEqual(given, kept, function)
+
+    def test_a_thing_with_lists_is_none(self):
+        for function, arguments in calls():
+            if "thing" in arguments:
+                self.assertIs(function(**arguments), True)
+                for depth in (0, 1, None):
+                    given = {**arguments, "thing": listed(arguments["thing"], depth)}
+                    kept = copy.deepcopy(given)
+                    self.assertIs(function(**given), False, (function, depth))
+                    self.assertEqual(given, kept, function)
+
+    def test_errors_have_tuples_and_change_nothing(self):
+        for function, arguments in calls():
+            given = {name: listed(worth, None) for name, worth in arguments.items()}
+            for name, error in (("cell", NoCell), ("name", NoName)):
+                if name in given and function.__name__ in ("shrunk", "stair_named", "name_at"):
+                    wrong = {**given, name: [9, 9]}
+                    kept = copy.deepcopy(wrong)
+                    with self.assertRaises(error) as caught:
+                        function(**wrong)
+                    self.assertEqual(vars(caught.exception), {name: (9, 9)})
+                    self.assertEqual(wrong, kept)
+
+    def test_unfit_whatever_they_are_and_ahead_of_all(self):
+        many = 0
+        for function, arguments in calls():
+            # What would raise other errors by itself, or be no thing.
+            others = {"cell": (9, 9), "name": (9, 9), "thing": None}
+            given = {name: others.get(name, worth) for name, worth in arguments.items()}
+            for place in [name for name in given if name in ("floor", "stair", "laying", "size")]:
+                for wrong in wrong_values():
+                    many += 1
+                    with self.assertRaises(Unfit):
+                        function(**{**given, place: wrong})
+        self.assertGreater(many, 0)
+
+    def test_lists_are_new(self):
+        many = 0
+        for function, arguments in calls():
+            told, again = function(**arguments), function(**arguments)
+            if isinstance(told, list):
+                many += 1
+                self.assertIsNot(told, again)
+                told.append(None)
+                self.assertEqual(function(**arguments), again)
+        self.assertEqual(many, 1)
+
+    def test_what_is_told_is_new_to_what_was_given(self):
+        for function, arguments in calls():
+            given = {name: listed(worth, None) if name != "thing" else worth for name, worth in arguments.items()}
+            told = repr(function(**given))
+            answer = function(**given)
+            for worth in given.values():
+                if isinstance(worth, list):
+                    worth.clear()
+            self.assertEqual(repr(answer), told, function)
+
+
+if __name__ == "__main__":
+    unittest.main()
