@@ -7,11 +7,12 @@ from stairlaid.values import fit_size
 
 def counts(floor, size):
     """The tuple of the pairs (foot, COUNT), ascending, of all feet whose COUNT is not 0."""
-    return tuple([(foot, many) for foot, many in _counted(floor, size) if many != 0])
+    told = counted(floor, size)
+    return tuple([(foot, many) for foot, many in told.items() if many != 0])
 
 
-def _counted(floor, size):
-    """The list of the pairs (foot, COUNT) of all diagonals of floor, maybe 0 too."""
+def counted(floor, size):
+    """The COUNT of each diagonal of floor, maybe 0 too, by feet ascending."""
     own = fit_floor(floor)
     fit_size(size)
     wide = {}
@@ -23,32 +24,36 @@ def _counted(floor, size):
         passing = sum(told[max(0, len(told) - size + 1):])
         # What hangs together leaves out no diagonal between its least and greatest.
         told.append(wide[foot] - passing)
-    return [(min(wide) + place, many) for place, many in enumerate(told)]
+    return {min(wide) + place: many for place, many in enumerate(told)}
 
 
 def count(floor, size, foot):
     """The COUNT of foot, a number: 0 if it is no diagonal of floor."""
-    told = {own: many for own, many in _counted(floor, size)}
-    return told.get(foot, 0)
+    return counted(floor, size).get(foot, 0)
 
 
 def names_of(floor, size):
     """The set of all NAMES (foot, k); CanNot() if some COUNT bars."""
-    told = _counted(floor, size)
-    if _least_bar(told, size) is not None:
+    told = clear_counts(floor, size)
+    return tuple([(foot, k) for foot, many in told.items() for k in range(many)])
+
+
+def clear_counts(floor, size):
+    """The COUNT of each diagonal of floor; CanNot() if some COUNT bars."""
+    told = counted(floor, size)
+    if count_bars(told, size) != []:
         raise CanNot()
-    return tuple([(foot, k) for foot, many in told for k in range(many)])
+    return told
 
 
 def count_bar(floor, size):
     """The least foot whose COUNT bars; None if there is none."""
-    return _least_bar(_counted(floor, size), size)
+    bars = count_bars(counted(floor, size), size)
+    return bars[0] if bars != [] else None
 
 
-def _least_bar(told, size):
-    last = told[-1][0]
-    for foot, many in told:
-        left_over = many != 0 and foot + size - 1 > last
-        if many < 0 or left_over:
-            return foot
-    return None
+def count_bars(told, size):
+    """The list, ascending, of the feet whose COUNT bars, told being all COUNTS by size."""
+    last = max(told)
+    # Below 0, or left over.
+    return [foot for foot, many in told.items() if many < 0 or (many != 0 and foot + size - 1 > last)]

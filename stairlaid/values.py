@@ -38,3 +38,47 @@ def fit_size(size):
     if not is_number(size) or size < 1:
         raise Unfit()
     return size
+
+
+def ways_on(pairs):
+    """For each first one of the pairs the list of the second ones, in order."""
+    ways = {}
+    for first, second in pairs:
+        ways.setdefault(first, []).append(second)
+    return ways
+
+
+def reached(ways, start):
+    """All to which ways of one or more pairs lead from start, by the least pairs first.
+
+    A dict: each of them with the one ahead of it on such a way.
+    """
+    ahead, fresh = {}, [start]
+    while fresh:
+        new = []
+        for first in fresh:
+            for second in ways.get(first, []):
+                if second not in ahead:
+                    ahead[second] = first
+                    new.append(second)
+        fresh = new
+    return ahead
+
+
+def in_row(items, pairs):
+    """The least row of the items with the first one of each pair ahead; None if a ring bars it."""
+    ways, row = ways_on(pairs), []
+    waits = {item: 0 for item in items}
+    for _, second in pairs:
+        waits[second] += 1
+    while len(row) < len(waits):
+        free = [item for item, many in waits.items() if many == 0]
+        if free == []:
+            return None
+        least = min(free)
+        row.append(least)
+        # Taken: it never waits for none again.
+        waits[least] = -1
+        for second in ways.get(least, []):
+            waits[second] -= 1
+    return row

@@ -1,5 +1,6 @@
-"""What the tests make and tell by the plainest ways: FLOORS, STAIRS, LAYINGS, COUNTS."""
+"""What the tests make and tell by the plainest ways: FLOORS, STAIRS, LAYINGS, COUNTS, who is AHEAD."""
 
+import random
 from functools import lru_cache
 from itertools import product
 
@@ -97,3 +98,73 @@ def counts_plainly(floor, size):
     for foot in range(min(wide), max(wide) + 1):
         told[foot] = told.get(foot - size, 0) + wide.count(foot) - wide.count(foot - 1)
     return told
+
+
+def place(cell):
+    return cell[0] - cell[1]
+
+
+@lru_cache(maxsize=None)
+def wild(many, size, most=6):
+    """So many FLOORS by chance, the same at each call: at most so many STAIRS side by side, of which
+    then CELLS were moved along their diagonals, so that no COUNT bars, maybe all else."""
+    chance = random.Random(size)
+    return tuple([_bent(chance, _grown(chance, size, chance.randint(1, most))) for _ in range(many)])
+
+
+def _grown(chance, size, stairs):
+    floor = tuple([(i, 0) for i in range(size)])
+    for _ in range(40 * stairs):
+        steps = tuple([chance.randint(0, 1) for _ in range(size - 1)])
+        x, y = chance.choice(floor)
+        larger = {*floor, *cells_plainly(((x + chance.randint(-2, 2), y + chance.randint(-2, 2)), steps))}
+        if len(larger) == len(floor) + size <= stairs * size and is_floor_plainly(larger):
+            floor = tuple(sorted(larger))
+    return floor
+
+
+def _bent(chance, floor):
+    for _ in range(chance.randint(0, 2 * len(floor))):
+        (x, y), by = chance.choice(floor), chance.choice((-2, -1, 1, 2))
+        bent = {*floor, (x + by, y - by)} - {(x, y)}
+        if len(bent) == len(floor) and is_floor_plainly(bent):
+            floor = tuple(sorted(bent))
+    return floor
+
+
+def named_plainly(laying):
+    """The STAIRS of a LAYING by NAMES."""
+    feet = {}
+    for cell, steps in sorted(laying, key=lambda stair: place(stair[0])):
+        feet.setdefault(sum(cell), []).append((cell, steps))
+    return {(foot, k): stair for foot in sorted(feet) for k, stair in enumerate(feet[foot])}
+
+
+def ahead_plainly(stair, other):
+    """Whether stair is AHEAD of other; None if none of both is."""
+    size, apart = len(stair[1]) + 1, sum(other[0]) - sum(stair[0])
+    if abs(apart) > size or stair == other:
+        return None
+    cells, others = cells_plainly(stair), cells_plainly(other)
+    if abs(apart) == size:
+        own, its = (cells[-1], others[0]) if apart > 0 else (cells[0], others[-1])
+        return place(own) < place(its)
+    told = {place(own) < place(its) for own in cells for its in others if sum(own) == sum(its)}
+    assert len(told) == 1, (stair, other)
+    return told == {True}
+
+
+def order_plainly(laying):
+    """All pairs of NAMES, the one AHEAD of the other."""
+    named = named_plainly(laying)
+    return {(name, other) for name in named for other in named if ahead_plainly(named[name], named[other])}
+
+
+def ways_plainly(pairs):
+    """All pairs (first, last) of what a way of one or more pairs leads from and to."""
+    ways = set(pairs)
+    while True:
+        more = {(first, last) for first, middle in ways for again, last in pairs if again == middle} - ways
+        if not more:
+            return ways
+        ways |= more

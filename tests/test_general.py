@@ -5,13 +5,14 @@ import importlib
 import inspect
 import unittest
 
-from stairlaid.errors import NoCell, NoName, Unfit
+from stairlaid.errors import NoCell, NoName, NoPoint, Unfit
 from tests.made import block_of
 
 SLAB = block_of(3, 2)
 FLAT = (((0, 0), (0, 0)), ((0, 1), (0, 0)))
 FAN = (((0, 1), (1,)), ((1, 0), (0,)), ((1, 1), (0,)))
 STAIR = ((4, -1), (0, 1, 1, 0))
+KNOT = ((0, 1), (1, 1), (2, 0), (2, 1), (2, 2), (3, 0))
 # For each file of the interface its functions, each with its arguments by name and in order.
 CALLS = {
     "cells": {
@@ -22,6 +23,18 @@ CALLS = {
         "grown": {"floor": SLAB, "cell": (1, 2)},
         "shrunk": {"floor": SLAB, "cell": (1, 1)},
         "borders": {"floor": SLAB},
+    },
+    "spaces": {
+        "shifted": {"floor": SLAB, "by": (3, -1)},
+        "mirrored": {"floor": SLAB},
+        "half_turned": {"floor": SLAB},
+        "stair_shifted": {"stair": STAIR, "by": (3, -1)},
+        "stair_mirrored": {"stair": STAIR},
+        "stair_half_turned": {"stair": STAIR},
+        "laying_shifted": {"laying": FAN, "by": (3, -1)},
+        "laying_mirrored": {"laying": FAN},
+        "laying_half_turned": {"laying": FAN},
+        "alike": {"floor": SLAB, "other": block_of(2, 3)},
     },
     "layings": {
         "is_stair": {"thing": STAIR},
@@ -41,7 +54,31 @@ CALLS = {
         "names_of": {"floor": SLAB, "size": 2},
         "count_bar": {"floor": block_of(3, 3), "size": 4},
     },
+    "rims": {
+        "rim": {"floor": SLAB},
+        "left_of": {"floor": SLAB, "point": (2, 1)},
+        "rim_numbers": {"floor": SLAB, "size": 2, "point": (3, 1)},
+        "rim_rows": {"floor": SLAB, "size": 2},
+        "rim_bar": {"floor": SLAB, "size": 3},
+    },
+    "runs": {
+        "runs": {"floor": SLAB, "number": 1},
+        "run_numbers": {"floor": SLAB, "size": 2, "number": 1},
+        "told_row": {"floor": SLAB, "size": 2, "foot": 0},
+    },
+    "told": {
+        "told_pairs": {"floor": KNOT, "size": 3},
+        "reason": {"floor": KNOT, "size": 3, "pair": ((2, 0), (1, 0))},
+        "told_ring": {"floor": KNOT, "size": 3},
+        "is_ring": {"floor": KNOT, "size": 3, "thing": ((2, 0), (1, 0))},
+    },
 }
+# What else is a FLOOR or a LAYING, by functions; and who raises errors that keep an argument.
+SECOND_ONES = {"alike": "other"}
+KEPT = {"shrunk": ("cell", NoCell), "stair_named": ("name", NoName), "name_at": ("cell", NoCell),
+        "rim_numbers": ("point", NoPoint)}
+# What raises other errors by itself, or is no thing.
+OTHERS = {"cell": (9, 9), "name": (9, 9), "point": (99, 99), "thing": None}
 
 
 def calls():
@@ -106,28 +143,25 @@ class AllFunctions(unittest.TestCase):
 
     def test_errors_have_tuples_and_change_nothing(self):
         for function, arguments in calls():
-            given = {name: listed(worth, None) for name, worth in arguments.items()}
-            for name, error in (("cell", NoCell), ("name", NoName)):
-                if name in given and function.__name__ in ("shrunk", "stair_named", "name_at"):
-                    wrong = {**given, name: [9, 9]}
-                    kept = copy.deepcopy(wrong)
-                    with self.assertRaises(error) as caught:
-                        function(**wrong)
-                    self.assertEqual(vars(caught.exception), {name: (9, 9)})
-                    self.assertEqual(wrong, kept)
+            if function.__name__ in KEPT:
+                name, error = KEPT[function.__name__]
+                wrong = {**{own: listed(worth, None) for own, worth in arguments.items()}, name: [9, 9]}
+                kept = copy.deepcopy(wrong)
+                with self.assertRaises(error) as caught:
+                    function(**wrong)
+                self.assertEqual(repr(list(vars(caught.exception).values())), "[(9, 9)]")
+                self.assertEqual(wrong, kept)
 
     def test_unfit_whatever_they_are_and_ahead_of_all(self):
-        many = 0
         for function, arguments in calls():
-            # What would raise other errors by itself, or be no thing.
-            others = {"cell": (9, 9), "name": (9, 9), "thing": None}
-            given = {name: others.get(name, worth) for name, worth in arguments.items()}
-            for place in [name for name in given if name in ("floor", "stair", "laying", "size")]:
+            given = {name: OTHERS.get(name, worth) for name, worth in arguments.items()}
+            places = [name for name in given if name in ("floor", "stair", "laying", "size")
+                      or name == SECOND_ONES.get(function.__name__)]
+            self.assertTrue(places or function.__name__ in ("is_floor", "is_stair"), function)
+            for place in places:
                 for wrong in wrong_values():
-                    many += 1
-                    with self.assertRaises(Unfit):
+                    with self.assertRaises(Unfit, msg=(function, place)):
                         function(**{**given, place: wrong})
-        self.assertGreater(many, 0)
 
     def test_lists_are_new(self):
         many = 0
@@ -138,7 +172,7 @@ class AllFunctions(unittest.TestCase):
                 self.assertIsNot(told, again)
                 told.append(None)
                 self.assertEqual(function(**arguments), again)
-        self.assertEqual(many, 1)
+        self.assertEqual(many, 3)
 
     def test_what_is_told_is_new_to_what_was_given(self):
         for function, arguments in calls():

@@ -1,13 +1,14 @@
 """What of the rules of the language plain reading tells: files, sizes, signs, imports."""
 
 import ast
+import builtins
 import pathlib
 import unittest
 
 PACKAGE = pathlib.Path(__file__).resolve().parent.parent / "stairlaid"
 FILES = sorted(PACKAGE.glob("*.py"))
 LIBRARY = {"heapq", "math", "itertools", "collections"}
-BARRED = (ast.AsyncFunctionDef, ast.Await, ast.Div)
+BARRED = (ast.AsyncFunctionDef, ast.Await, ast.Div, ast.GeneratorExp)
 
 
 def trees():
@@ -56,6 +57,27 @@ class Language(unittest.TestCase):
                 self.assertFalse(isinstance(node, ast.Constant) and isinstance(node.value, float), name)
             for node in tree.body:
                 self.assertEqual(getattr(node, "decorator_list", []), [], (name, node.lineno))
+
+    def test_names_have_one_meaning(self):
+        for name, tree in trees():
+            taken = {part.name for node in tree.body if isinstance(node, ast.ImportFrom) for part in node.names}
+            taken |= {node.name for node in tree.body if isinstance(node, ast.ClassDef)} | set(dir(builtins))
+            for node in ast.walk(tree):
+                if isinstance(node, ast.arg):
+                    self.assertNotIn(node.arg, taken, (name, node.lineno))
+                if isinstance(node, ast.Name) and isinstance(node.ctx, ast.Store):
+                    self.assertNotIn(node.id, taken, (name, node.lineno))
+                if isinstance(node, ast.FunctionDef):
+                    self.assertNotIn(node.name, taken, (name, node.lineno))
+
+    def test_imports_do_not_go_round(self):
+        # Each file only from such as are told ahead of it, in some order.
+        needs = {name[:-3]: {node.module.split(".")[1] for node in tree.body if isinstance(node, ast.ImportFrom)
+                             and node.module.startswith("stairlaid.")} for name, tree in trees()}
+        while needs:
+            free = [name for name, others in needs.items() if not others & set(needs)]
+            self.assertTrue(free, needs)
+            needs = {name: others for name, others in needs.items() if name not in free}
 
 
 if __name__ == "__main__":
