@@ -51,6 +51,16 @@ def _cells(stair):
     return cells
 
 
+def stair_of(cells):
+    """The STAIR with just these CELLS, in this order; None if there is none."""
+    steps = []
+    for (x, y), cell in zip(cells, cells[1:]):
+        if cell not in ((x + 1, y), (x, y + 1)):
+            return None
+        steps.append(1 if cell == (x, y + 1) else 0)
+    return (cells[0], tuple(steps))
+
+
 def stairs_in(floor, size):
     """The list, ascending, of all STAIRS of this size that have no CELL but of floor."""
     own = fit_floor(floor)
@@ -121,11 +131,21 @@ def _named(laying):
 
 def stair_named(laying, name):
     """The STAIR of laying with this NAME; NoName(name) if none has it."""
-    own, wanted = fit_laying(laying), frozen(name)
-    stairs = {called: stair for called, stair in _named(own)}
-    if not is_pair(wanted) or wanted not in stairs:
-        raise NoName(wanted)
-    return stairs[wanted]
+    stairs = stairs_by_names(laying)
+    return stairs[fit_name(stairs, name)]
+
+
+def stairs_by_names(laying):
+    """The STAIRS of laying by their NAMES, ascending."""
+    return {name: stair for name, stair in names(laying)}
+
+
+def fit_name(stairs, name):
+    """name with tuples in the place of lists; NoName(name) if it is none of these STAIRS by NAMES."""
+    own = frozen(name)
+    if not is_pair(own) or own not in stairs:
+        raise NoName(own)
+    return own
 
 
 def name_at(laying, cell):
@@ -135,3 +155,25 @@ def name_at(laying, cell):
     if not is_pair(wanted) or wanted not in called:
         raise NoCell(wanted)
     return called[wanted]
+
+
+def is_ahead(stair, other):
+    """Whether stair is AHEAD of other, two STAIRS of one LAYING, feet at most size apart."""
+    apart = foot_of(other) - foot_of(stair)
+    if apart < 0:
+        return not is_ahead(other, stair)
+    # On the first diagonal of the other one; just ahead of it, if none is of both.
+    x, y = _cells(stair)[min(apart, _size(stair) - 1)]
+    a, b = other[0]
+    return x - y < a - b
+
+
+def order_in(stairs):
+    """The list of all pairs of NAMES, the one AHEAD of the other, of a LAYING'S STAIRS by NAMES."""
+    called, pairs = list(stairs), []
+    for place, name in enumerate(called):
+        for other in called[place + 1:]:
+            # NAMES ascend by feet.
+            if other[0] - name[0] <= _size(stairs[name]):
+                pairs.append((name, other) if is_ahead(stairs[name], stairs[other]) else (other, name))
+    return pairs

@@ -103,8 +103,7 @@ def window(point, numbers):
 
 def clear_rim(floor, size):
     """The COUNTS by feet and the RIM NUMBERS by POINTS; CanNot() if one of them bars."""
-    own = fit_floor(floor)
-    told, numbers = clear_counts(own, size), _numbers(own, size)
+    told, numbers = clear_counts(floor, size), _numbers(floor, size)
     if _bars(told, numbers) != []:
         raise CanNot()
     return told, numbers

@@ -43,7 +43,7 @@ def stair_half_turned(stair):
 
 def laying_shifted(laying, by):
     """The LAYING of the STAIRS of laying, shifted."""
-    return tuple(sorted([stair_shifted(stair, by) for stair in fit_laying(laying)]))
+    return tuple([stair_shifted(stair, by) for stair in fit_laying(laying)])
 
 
 def laying_mirrored(laying):

@@ -5,6 +5,9 @@ from stairlaid.errors import Unfit
 # No argument is nested deeper, and what is deeper fits nowhere.
 LEVELS = 12
 
+# More ROWS or LAYINGS than these are not gone through.
+MOST = 400
+
 
 def is_number(value):
     """Whether value is an int that is no bool."""
@@ -24,6 +27,11 @@ def is_ascending(values):
 def is_pair_set(value):
     """Whether value is a set of pairs of numbers, maybe ()."""
     return type(value) is tuple and all([is_pair(item) for item in value]) and is_ascending(value)
+
+
+def are_two_pairs(value):
+    """Whether value is a pair of pairs of numbers: what may be two NAMES."""
+    return type(value) is tuple and len(value) == 2 and is_pair(value[0]) and is_pair(value[1])
 
 
 def frozen(value, levels=LEVELS):

@@ -1,4 +1,4 @@
-"""Each example of the document's points [4] to [10], as it stands there."""
+"""Each example of the document's points [4] to [14], as it stands there."""
 
 import importlib
 import unittest
@@ -153,9 +153,100 @@ POINT_10 = """
     raises CanNot()
 """
 
+POINT_11 = """
+    >>> block = tuple([(x, y) for x in range(3) for y in range(3)])
+    >>> flat = (((0, 0), (0, 0)), ((0, 1), (0, 0)), ((0, 2), (0, 0)))
+    >>> order_of(flat), ahead(flat, (0, 0), (2, 0)), ahead(flat, (2, 0), (0, 0)), ahead(flat, (1, 0), (1, 0))
+    ((((1, 0), (0, 0)), ((2, 0), (0, 0)), ((2, 0), (1, 0))), -1, 1, 0)
+    >>> free_pairs(block, 3)
+    (((0, 0), (1, 0)), ((0, 0), (2, 0)), ((1, 0), (2, 0)))
+    >>> laying_of(block, 3, (((0, 0), (2, 0)), ((1, 0), (0, 0)), ((1, 0), (2, 0))))
+    (((0, 0), (0, 1)), ((0, 1), (1, 0)), ((2, 0), (1, 1)))
+    >>> round_about = (((0, 0), (1, 0)), ((1, 0), (2, 0)), ((2, 0), (0, 0)))
+    >>> is_order(block, 3, order_of(flat)), is_order(block, 3, round_about), is_order(block, 3, order_of(flat)[:2])
+    (True, False, False)
+    >>> strip = (((0, 0), (0, 0)), ((0, 1), (0, 0)), ((0, 2), (0, 0)), ((3, 0), (1, 1)))
+    >>> order_of(strip)[:2], ahead(strip, (3, 0), (0, 0)), free_pairs(floor_of(strip), 3)[3:]
+    ((((0, 0), (3, 0)), ((1, 0), (0, 0))), -1, (((1, 0), (3, 0)), ((2, 0), (3, 0))))
+    >>> ahead(flat, (0, 0), (3, 0))
+    raises NoName(name=(3, 0))
+    >>> laying_of(block, 3, round_about)
+    raises Unfit()
+    >>> free_pairs(((0, 0), (0, 1), (1, 0)), 3)
+    raises CanNot()
+"""
+
+POINT_12 = """
+    >>> rows(flat), first_ones(flat), least_row(strip), laid_by(block, 3, (1, 2, 0))
+    ([(2, 1, 0)], ((2, 0),), (2, 1, 0, 3), (((0, 0), (0, 0)), ((0, 1), (1, 0)), ((1, 1), (0, 1))))
+    >>> first_cells(block, 3, 2), first_cells(block, 3, 1)
+    (((0, 2), (1, 2), (2, 2)), ((0, 1), (0, 2), (1, 2)))
+    >>> wide = flat + tuple([((3, y), (0, 0)) for y in range(3)])
+    >>> rows(wide)
+    [(2, 1, 0, 5, 4, 3), (2, 1, 5, 0, 4, 3), (2, 1, 5, 4, 0, 3), (2, 5, 1, 0, 4, 3), (2, 5, 1, 4, 0, 3)]
+    >>> rows_alike(3, (2, 1, 0, 5, 4, 3), (2, 5, 1, 4, 0, 3)), rows_alike(3, (2, 1, 0), (2, 0, 1)), rows_alike(3, (0, 3), (3, 0)), rows_alike(3, (0, 4), (4, 0))
+    (True, False, False, True)
+    >>> laid_by(floor_of(wide), 3, (2, 5, 1, 4, 0, 3)) == wide, laid_by(((5, 5),), 1, (10,))
+    (True, (((5, 5), ()),))
+    >>> laid_by(floor_of(strip), 3, (3, 0, 1, 2))
+    raises Broken(place=0)
+    >>> laid_by(block, 3, (2, 1, 1))
+    raises Broken(place=2)
+    >>> laid_by(block, 3, (2, 1))
+    raises Unfit()
+    >>> first_cells(block, 3, 3)
+    raises CanNot()
+"""
+
+POINT_13 = """
+    >>> corner, knot = ((0, 0), (0, 1), (1, 0)), ((0, 1), (1, 1), (2, 0), (2, 1), (2, 2), (3, 0))
+    >>> strait, fork = ((0, 1), (0, 2), (1, 1), (2, 1), (3, 0), (3, 1)), ((0, 1), (1, 1), (1, 2), (2, 0), (2, 1), (3, 1))
+    >>> slab = ((0, 0), (0, 1), (1, 0), (1, 1), (2, 0), (2, 1))
+    >>> [can_lay(slab, own) for own in (1, 2, 3, 4)], [can_lay(own, 3) for own in (corner, knot, strait)], can_lay(fork, 2)
+    ([True, True, True, False], [False, False, False], False)
+    >>> bar(corner, 3), bar(slab, 4), bar(strait, 3), lay(slab, 1) == tuple([(cell, ()) for cell in slab])
+    (('count', 0), ('count', 1), ('rim', (1, 2)), True)
+    >>> [is_bar(corner, 3, ("count", own)) for own in (-1, 0, 1, 2)], [is_bar(strait, 3, ("rim", own)) for own in ((1, 2), (3, 1), (2, 2), (9, 9))]
+    ([False, True, True, False], [True, True, False, False])
+    >>> bar(knot, 3)[0], len(bar(knot, 3)[1]), is_bar(knot, 3, ("ring", ((2, 0), (1, 0)))), is_bar(fork, 2, ("ring", ((1, 0), (2, 0), (3, 0))))
+    ('ring', 2, True, True)
+    >>> is_bar(fork, 2, ("ring", ((1, 0), (3, 0), (2, 0)))), is_bar(strait, 3, ("ring", ((1, 0),))), is_bar(slab, 3, ("count", 0)), is_bar(knot, 3, None)
+    (False, False, False, False)
+    >>> lay(corner, 3)
+    raises CanNot()
+    >>> bar(slab, 3)
+    raises CanNot()
+    >>> can_lay(((0, 0), (1, 1)), 2)
+    raises Unfit()
+"""
+
+POINT_14 = """
+    >>> block = tuple([(x, y) for x in (0, 1, 2) for y in (0, 1, 2)])
+    >>> beds, posts = tuple([((0, y), (0, 0)) for y in (0, 1, 2)]), tuple([((x, 0), (1, 1)) for x in (0, 1, 2)])
+    >>> turns(beds), between(beds, (2, 0), (0, 0)), between(beds, (0, 0), (2, 0)), can_turn(beds, ((2, 0), (0, 0)))
+    ((((1, 0), (0, 0)), ((2, 0), (1, 0))), ((1, 0),), (), False)
+    >>> turned(beds, ((1, 0), (0, 0))), turned_steps(beds, ((1, 0), (0, 0)))
+    ((((0, 0), (1, 0)), ((0, 2), (0, 0)), ((1, 0), (0, 1))), (2, 1, 0))
+    >>> apart(beds, posts), fewest(beds, posts), fewest(beds, beds), plan(beds, beds)
+    ((((0, 0), (1, 0)), ((0, 0), (2, 0)), ((1, 0), (2, 0))), 3, 0, ())
+    >>> way = (((1, 0), (0, 0)), ((2, 0), (0, 0)), ((2, 0), (1, 0)))
+    >>> is_plan(beds, posts, way), is_plan(beds, posts, way[:2]), is_plan(beds, posts, plan(beds, posts)), len(plan(beds, posts))
+    (True, False, True, 3)
+    >>> behind(beds, way) == posts, behind(beds, ()) == beds, is_plan(beds, beds, (way[0], ((0, 0), (1, 0))))
+    (True, True, True)
+    >>> behind(beds, way[1:])
+    raises Broken(place=0)
+    >>> turned(beds, ((2, 0), (0, 0)))
+    raises CanNot()
+    >>> can_turn(beds, ((0, 0), (0, 1)))
+    raises NoName(name=(0, 1))
+    >>> fewest(beds, beds[:2])
+    raises Unfit()
+"""
+
 # The files whose words the examples use, and the points in the order in which they stand.
-FILES = ("cells", "spaces", "layings", "counts", "rims", "runs", "told")
-POINTS = (POINT_4, POINT_5, POINT_6, POINT_7, POINT_8, POINT_9, POINT_10)
+FILES = ("cells", "spaces", "layings", "counts", "rims", "runs", "told", "orders", "peels", "cans", "turns")
+POINTS = (POINT_4, POINT_5, POINT_6, POINT_7, POINT_8, POINT_9, POINT_10, POINT_11, POINT_12, POINT_13, POINT_14)
 
 
 class Examples(unittest.TestCase):

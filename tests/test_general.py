@@ -13,6 +13,10 @@ FLAT = (((0, 0), (0, 0)), ((0, 1), (0, 0)))
 FAN = (((0, 1), (1,)), ((1, 0), (0,)), ((1, 1), (0,)))
 STAIR = ((4, -1), (0, 1, 1, 0))
 KNOT = ((0, 1), (1, 1), (2, 0), (2, 1), (2, 2), (3, 0))
+BLOCK = block_of(3, 3)
+BEDS, POSTS = tuple([((0, y), (0, 0)) for y in range(3)]), tuple([((x, 0), (1, 1)) for x in range(3)])
+WAY = (((1, 0), (0, 0)), ((2, 0), (0, 0)), ((2, 0), (1, 0)))
+ORDER = (((0, 0), (2, 0)), ((1, 0), (0, 0)), ((1, 0), (2, 0)))
 # For each file of the interface its functions, each with its arguments by name and in order.
 CALLS = {
     "cells": {
@@ -72,13 +76,47 @@ CALLS = {
         "told_ring": {"floor": KNOT, "size": 3},
         "is_ring": {"floor": KNOT, "size": 3, "thing": ((2, 0), (1, 0))},
     },
+    "orders": {
+        "ahead": {"laying": FLAT, "name": (0, 0), "other": (1, 0)},
+        "order_of": {"laying": FAN},
+        "is_order": {"floor": BLOCK, "size": 3, "thing": ORDER},
+        "laying_of": {"floor": BLOCK, "size": 3, "order": ORDER},
+        "free_pairs": {"floor": BLOCK, "size": 3},
+    },
+    "peels": {
+        "first_ones": {"laying": FAN},
+        "rows": {"laying": FAN},
+        "least_row": {"laying": FAN},
+        "first_cells": {"floor": BLOCK, "size": 3, "foot": 1},
+        "laid_by": {"floor": BLOCK, "size": 3, "row": (1, 2, 0)},
+        "rows_alike": {"size": 3, "row": (0, 4, 1), "other": (4, 0, 1)},
+    },
+    "cans": {
+        "can_lay": {"floor": SLAB, "size": 4},
+        "lay": {"floor": SLAB, "size": 3},
+        "bar": {"floor": KNOT, "size": 3},
+        "is_bar": {"floor": KNOT, "size": 3, "thing": ("ring", ((2, 0), (1, 0)))},
+    },
+    "turns": {
+        "turns": {"laying": BEDS},
+        "can_turn": {"laying": BEDS, "pair": WAY[0]},
+        "turned": {"laying": BEDS, "pair": WAY[0]},
+        "turned_steps": {"laying": BEDS, "pair": WAY[0]},
+        "between": {"laying": BEDS, "name": (2, 0), "other": (0, 0)},
+        "apart": {"laying": BEDS, "other": POSTS},
+        "fewest": {"laying": BEDS, "other": POSTS},
+        "plan": {"laying": BEDS, "other": POSTS},
+        "is_plan": {"laying": BEDS, "other": POSTS, "thing": WAY},
+        "behind": {"laying": BEDS, "plan": WAY},
+    },
 }
 # What else is a FLOOR or a LAYING, by functions; and who raises errors that keep an argument.
-SECOND_ONES = {"alike": "other"}
+SECOND_ONES = {"alike": "other", "apart": "other", "fewest": "other", "plan": "other", "is_plan": "other"}
 KEPT = {"shrunk": ("cell", NoCell), "stair_named": ("name", NoName), "name_at": ("cell", NoCell),
-        "rim_numbers": ("point", NoPoint)}
+        "rim_numbers": ("point", NoPoint), "ahead": ("other", NoName), "between": ("name", NoName)}
 # What raises other errors by itself, or is no thing.
-OTHERS = {"cell": (9, 9), "name": (9, 9), "point": (99, 99), "thing": None}
+OTHERS = {"cell": (9, 9), "name": (9, 9), "point": (99, 99), "thing": None, "pair": ((9, 9), (9, 9)),
+          "row": (99,), "order": (), "plan": (((9, 9), (9, 9)),)}
 
 
 def calls():
@@ -172,7 +210,7 @@ class AllFunctions(unittest.TestCase):
                 self.assertIsNot(told, again)
                 told.append(None)
                 self.assertEqual(function(**arguments), again)
-        self.assertEqual(many, 3)
+        self.assertEqual(many, 4)
 
     def test_what_is_told_is_new_to_what_was_given(self):
         for function, arguments in calls():

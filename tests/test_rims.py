@@ -92,12 +92,12 @@ class LeftOf(unittest.TestCase):
 
 class Numbers(unittest.TestCase):
     def test_all_floors_from_whatever_start_and_way(self):
-        for floor in floors(7):
-            points = list(rim(floor))
-            least = min([sum(point) for point in points])
-            for size in range(1, 7):
-                if count_bar(floor, size) is not None:
-                    continue
+        asked = [(floor, size) for floor in floors(7) for size in range(1, 7)]
+        asked += [(floor, size) for size in (2, 3, 4) for floor in wild(60, size)]
+        for floor, size in asked:
+            if count_bar(floor, size) is None:
+                points = list(rim(floor))
+                least = min([sum(point) for point in points])
                 told = dict(rim_rows(floor, size))
                 self.assertEqual(list(told), points)
                 for way in (points, points[::-1]):

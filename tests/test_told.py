@@ -14,6 +14,8 @@ SLAB, CORNER, BENCH = block_of(3, 2), ((0, 0), (0, 1), (1, 0)), block_of(4, 3)
 KNOT = ((0, 1), (1, 1), (2, 0), (2, 1), (2, 2), (3, 0))
 KNOT2 = ((0, 2), (1, 0), (1, 1), (1, 2), (1, 3), (2, 1))
 STRAIT = ((0, 1), (0, 2), (1, 1), (2, 1), (3, 0), (3, 1))
+PIT = ((-3, 1), (-2, 0), (-2, 1), (-2, 2), (-2, 3), (-2, 4), (-1, -1), (-1, 0), (-1, 1), (0, -1), (0, 0), (0, 1),
+       (0, 2), (0, 3), (1, -1), (1, 0), (1, 2), (2, 0))
 FUNCTIONS = (told_pairs, told_ring, lambda floor, size: reason(floor, size, ((0, 0), (1, 0))),
              lambda floor, size: is_ring(floor, size, ((0, 0), (1, 0))))
 
@@ -90,6 +92,11 @@ class Told(unittest.TestCase):
         self.assertEqual((told_pairs(((5, -2),), 1), told_ring(((5, -2),), 1)), ((), None))
         self.assertEqual(told_pairs(SLAB, 1)[:3], (((0, 0), (1, 1)), ((1, 0), (0, 0)), ((1, 0), (1, 1))))
         self.assertEqual([reason(SLAB, 1, own) for own in told_pairs(SLAB, 1)[:3]], [("run", 0), ("run", 0), ("foot",)])
+
+    def test_a_row_that_is_not_told(self):
+        self.assertEqual(told_pairs(PIT, 3), tuple(sorted(reasons_plainly(PIT, 3))))
+        self.assertIs(is_ring(PIT, 3, told_ring(PIT, 3)), True)
+        self.assertEqual(layings_plainly(PIT, 3), [])
 
     def test_rings_go_round(self):
         for floor, size in clear(6, (2, 3)):
