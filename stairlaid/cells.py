@@ -47,6 +47,14 @@ def fit_floor(floor):
     return own
 
 
+def fit_cell(cells, cell):
+    """cell with tuples in the place of lists; NoCell(cell) if it is none of these CELLS."""
+    own = frozen(cell)
+    if not is_pair(own) or own not in cells:
+        raise NoCell(own)
+    return own
+
+
 def diagonal(floor, number):
     """The tuple of the CELLS of floor on this diagonal, by places ascending."""
     # On one diagonal CELLS ascend as their places do, so the FLOOR's order serves.
@@ -81,9 +89,8 @@ def _larger(floor, cell):
 
 def shrunk(floor, cell):
     """The FLOOR without cell; NoCell(cell) if it has none such, Unfit() if that is no FLOOR."""
-    own, gone = fit_floor(floor), frozen(cell)
-    if not is_pair(gone) or gone not in own:
-        raise NoCell(gone)
+    own = fit_floor(floor)
+    gone = fit_cell(own, cell)
     return fit_floor([left for left in own if left != gone])
 
 

@@ -1,7 +1,7 @@
 """STAIRS and LAYINGS: what is one, its CELLS, its FLOOR, and its NAMES."""
 
-from stairlaid.cells import fit_floor, is_floor
-from stairlaid.errors import NoCell, NoName, Unfit
+from stairlaid.cells import fit_cell, fit_floor, is_floor
+from stairlaid.errors import NoName, Unfit
 from stairlaid.values import fit_size, frozen, is_ascending, is_number, is_pair
 
 
@@ -84,7 +84,7 @@ def is_laying(floor, size, thing):
     """Whether thing is a LAYING of floor by size."""
     own = fit_floor(floor)
     fit_size(size)
-    return _are_stairs(thing, size) and _cells_of_all(thing) == own
+    return _are_stairs(thing, size) and cells_of_all(thing) == own
 
 
 def _are_stairs(value, size):
@@ -94,25 +94,30 @@ def _are_stairs(value, size):
     return is_ascending(value) and all([_size(stair) == size for stair in value])
 
 
-def _cells_of_all(stairs):
+def cells_of_all(stairs):
     """The CELLS of these STAIRS, one not greater than the next, each as often as they have it."""
     return tuple(sorted([cell for stair in stairs for cell in _cells(stair)]))
+
+
+def is_some_laying(thing):
+    """Whether thing is a LAYING, of whatever FLOOR, by whatever size."""
+    if type(thing) is not tuple or len(thing) == 0 or not is_stair(thing[0]):
+        return False
+    # A CELL that two STAIRS have stands twice there, and makes it no FLOOR.
+    return _are_stairs(thing, _size(thing[0])) and is_floor(cells_of_all(thing))
 
 
 def fit_laying(laying):
     """laying with tuples in the place of lists; Unfit() if it is no LAYING of whatever FLOOR."""
     own = frozen(laying)
-    if type(own) is not tuple or len(own) == 0 or not is_stair(own[0]):
-        raise Unfit()
-    # A CELL that two STAIRS have stands twice there, and makes it no FLOOR.
-    if not _are_stairs(own, _size(own[0])) or not is_floor(_cells_of_all(own)):
+    if not is_some_laying(own):
         raise Unfit()
     return own
 
 
 def floor_of(laying):
     """The FLOOR of a LAYING."""
-    return _cells_of_all(fit_laying(laying))
+    return cells_of_all(fit_laying(laying))
 
 
 def names(laying):
@@ -150,11 +155,13 @@ def fit_name(stairs, name):
 
 def name_at(laying, cell):
     """The NAME of the STAIR of laying that has this CELL; NoCell(cell) if none has it."""
-    own, wanted = fit_laying(laying), frozen(cell)
-    called = {square: name for name, stair in _named(own) for square in _cells(stair)}
-    if not is_pair(wanted) or wanted not in called:
-        raise NoCell(wanted)
-    return called[wanted]
+    called = names_by_cells(laying)
+    return called[fit_cell(called, cell)]
+
+
+def names_by_cells(laying):
+    """The NAME of the STAIR that has it, for each CELL of laying."""
+    return {cell: name for name, stair in names(laying) for cell in _cells(stair)}
 
 
 def is_ahead(stair, other):

@@ -5,7 +5,7 @@ from stairlaid.counts import names_of
 from stairlaid.errors import CanNot
 from stairlaid.rims import clear_rim, window
 from stairlaid.runs import row_by_runs
-from stairlaid.values import frozen, in_row, is_pair, reached, ways_on
+from stairlaid.values import frozen, in_row, is_pair, way_between, ways_on
 
 
 def told_pairs(floor, size):
@@ -49,20 +49,9 @@ def _pairs_at(rows, told):
 def told_ring(floor, size):
     """A RING with as few NAMES as can be; None if there is none."""
     ways = ways_on(told_pairs(floor, size))
-    rings = [_ring_from(ways, name) for name in ways]
-    return min([ring for ring in rings if ring is not None], key=len, default=None)
-
-
-def _ring_from(ways, name):
-    """A RING of the fewest NAMES that has this one; None if there is none."""
-    ahead = reached(ways, name)
-    if name not in ahead:
-        return None
-    ring = [name]
-    while ahead[ring[-1]] != name:
-        ring.append(ahead[ring[-1]])
-    # Told from the end, where it comes back to the NAME.
-    return (name, *ring[:0:-1])
+    around = [way_between(ways, name, name) for name in ways]
+    # The NAME at which it begins stands at its end again.
+    return min([way[:-1] for way in around if way is not None], key=len, default=None)
 
 
 def is_ring(floor, size, thing):

@@ -27,6 +27,13 @@ def _turn(stairs, pair):
     return {low: lower, high: higher}
 
 
+def next_layings(laying):
+    """The list of the LAYINGS that come of laying by one TURN."""
+    stairs = stairs_by_names(laying)
+    come = [_turn(stairs, pair) for pair in order_in(stairs)]
+    return [_as_laying({**stairs, **two}) for two in come if two is not None]
+
+
 def _fit_pair(laying, pair):
     """The STAIRS by NAMES, and the pair; NoName(name) for the first that is no NAME."""
     stairs = stairs_by_names(laying)
@@ -105,6 +112,11 @@ def fewest(laying, other):
 
 def plan(laying, other):
     """A PLAN of the fewest TURNS that leads from laying to other."""
+    return plan_between(laying, other)
+
+
+def plan_between(laying, other):
+    """What plan tells, for those that call something else so."""
     own, its = _fit_both(laying, other)
     stairs, left, way = stairs_by_names(own), _turned_about(own, its), []
     while left != []:

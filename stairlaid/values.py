@@ -73,6 +73,18 @@ def reached(ways, start):
     return ahead
 
 
+def way_between(ways, start, last):
+    """The row of the fewest by which ways of one or more pairs lead from start to last; None if none does."""
+    ahead = reached(ways, start)
+    if last not in ahead:
+        return None
+    # Told from its end, until it comes to the start.
+    row = [last, ahead[last]]
+    while row[-1] != start:
+        row.append(ahead[row[-1]])
+    return tuple(row[::-1])
+
+
 def in_row(items, pairs):
     """The least row of the items with the first one of each pair ahead; None if a ring bars it."""
     ways, row = ways_on(pairs), []

@@ -168,3 +168,64 @@ def ways_plainly(pairs):
         if not more:
             return ways
         ways |= more
+
+
+# What is no FLOOR, no LAYING, no size; CELLS and NAMES that are none of a small FLOOR, and what is no pair of numbers.
+NO_FLOORS = (None, True, 0, "", "ab", (), [], ((1, 0), (0, 0)), ((0, 0), (0, 0)), ((0, 0), (1, 1)), ((0, True),),
+             ((0, 0), (0, 2)), tuple(sorted({*block_of(3, 3)} - {(1, 1)})), (0, 0))
+NO_LAYINGS = (None, True, 0, "", "ab", (), [], (((0, 1), (0,)), ((0, 0), (0,))), (((0, 0), (0,)), ((0, 0), (1,))),
+              (((0, 0), ()), ((1, 1), ())), (((0, 0), (0,)), ((0, 1), ())), (((0, 0), (2,)),), (((0, 0), (True,)),),
+              (((0, False), (0,)),), block_of(3, 2))
+NO_SIZES = (0, -1, None, True, False, "3", 2.0, (3,))
+NO_PAIRS = (None, True, 3, "ab", (), (0,), (0, 0, 0), (True, 0), (0, False), (0.0, 0), ("0", "0"), ((0, 0), (0, 0)))
+
+
+@lru_cache(maxsize=None)
+def yards(many, size, most=20):
+    """So many FLOORS by chance, the same at each call: blocks that can be laid, put together as they come."""
+    chance, found = random.Random(100 + size), []
+    sides_of = [(size, high) for high in (1, 2, 3)] + [(wide, size) for wide in (1, 2, 3)]
+    while len(found) < many:
+        floor = block_of(*chance.choice(sides_of))
+        for _ in range(30):
+            wide, high = chance.choice(sides_of)
+            (x, y), by = chance.choice(floor), (chance.randint(-wide, 1), chance.randint(-high, 1))
+            larger = {*floor, *moved(block_of(wide, high), (x + by[0], y + by[1]))}
+            if len(larger) == len(floor) + wide * high <= most and is_floor_plainly(larger):
+                floor = tuple(sorted(larger))
+        found.append(floor)
+    return tuple(found)
+
+
+@lru_cache(maxsize=None)
+def families(most, many, sizes=(1, 2, 3, 4, 5, 6)):
+    """(FLOOR, size, all LAYINGS, maybe none): all FLOORS of at most so many CELLS, and so many by chance."""
+    asked = [(floor, size) for floor in floors(most) for size in sizes]
+    asked += [(floor, size) for size in sizes if size > 1 for floor in (*wild(many, size, 4), *yards(many, size))]
+    return tuple([(floor, size, tuple(layings_plainly(floor, size))) for floor, size in asked])
+
+
+def laid_ones(most, many, sizes=(1, 2, 3, 4, 5, 6), least=1):
+    """Of these families those with so many LAYINGS or more."""
+    return [row for row in families(most, many, sizes) if len(row[2]) >= least]
+
+
+def patched(*patches):
+    """The CELLS of blocks (x, y, wide, high)."""
+    return tuple(sorted([cell for x, y, wide, high in patches for cell in moved(block_of(wide, high), (x, y))]))
+
+
+def strip_of(steps):
+    """The LAYING by size 1 of the CELLS to which the steps lead from (0, 0)."""
+    return tuple([(cell, ()) for cell in cells_plainly(((0, 0), steps))])
+
+
+# FLOORS at the edges: with just 400 LAYINGS, with 401; with 12 free pairs and more than 400; with 13 free pairs.
+JUST_400, JUST_401 = patched((0, 0, 3, 5), (3, 3, 4, 3)), patched((-4, 0, 4, 2), (0, -4, 2, 8), (2, -4, 1, 4))
+TWELVE_FREE, THIRTEEN_FREE = patched((0, 0, 4, 4), (4, -3, 4, 4)), JUST_400
+# LAYINGS by size 1 with just 400 TAKES, and with 401.
+TAKES_400 = strip_of((0, 0, 1, 1, 0, 0, 1, 0, 1, 1, 0, 1))
+TAKES_401 = strip_of((0, 0, 1, 0, 1, 0, 1, 1, 0, 1, 0, 0))
+# FLOORS by sizes with a BAR of each kind.
+BARRED = ((((0, 0), (0, 1), (1, 0)), 3), (((0, 1), (0, 2), (1, 1), (2, 1), (3, 0), (3, 1)), 3),
+          (((0, 1), (1, 1), (2, 0), (2, 1), (2, 2), (3, 0)), 3))
