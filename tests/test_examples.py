@@ -1,4 +1,4 @@
-"""Each example of the document's points [4] to [14], as it stands there."""
+"""Each example of the document's points [4] to [22], as it stands there."""
 
 import importlib
 import unittest
@@ -244,9 +244,161 @@ POINT_14 = """
     raises Unfit()
 """
 
+POINT_15 = """
+    >>> shape(beds[0]), shapes(beds), shapes(posts), ups(beds, 1), ups(posts, 2), sums(beds), middles(posts)
+    ((0, 0), (((0, 0), 3),), (((1, 1), 3),), 0, 3, (0,), (0, 0))
+    >>> shapes_behind(beds, ((1, 0), (0, 0)))
+    (((0, 0), 1), ((0, 1), 1), ((1, 0), 1))
+    >>> ledge = ((0, 0), (0, 1), (0, 2), (0, 3), (1, 0), (1, 1), (1, 2), (1, 3), (1, 4))
+    >>> tall = (((0, 0), (1, 1)), ((0, 3), (0, 1)), ((1, 0), (1, 1)))
+    >>> shapes(tall), ups(tall, 1), ups(tall, 2), sums(tall), middles(tall)
+    ((((0, 1), 1), ((1, 1), 2)), 2, 3, (-1,), (-8, -6))
+    >>> sums_of(ledge, 3), middles_of(ledge, 3), can_have(ledge, 3, shapes(tall)), can_have(ledge, 3, shapes(posts))
+    ((-1,), (-8, -6), True, False)
+    >>> slab = ((0, 0), (0, 1), (1, 0), (1, 1), (2, 0), (2, 1))
+    >>> sums_of(slab, 2), middles_of(slab, 2), sums_of(block, 3), middles_of(block, 1)
+    ((), (3,), (0,), (0,))
+    >>> sums_of(((0, 0), (0, 1), (1, 0)), 3)
+    raises CanNot()
+    >>> ups(beds, 3)
+    raises Unfit()
+"""
+
+POINT_16 = """
+    >>> slab, bench, corner = ((0, 0), (0, 1), (1, 0), (1, 1), (2, 0), (2, 1)), tuple([(x, y) for x in range(4) for y in range(3)]), ((0, 0), (0, 1), (1, 0))
+    >>> all_layings(slab, 3), all_layings(corner, 3), all_layings(corner, 1)
+    ([(((0, 0), (0, 0)), ((0, 1), (0, 0))), (((0, 0), (1, 0)), ((1, 0), (0, 1)))], [], [(((0, 0), ()), ((0, 1), ()), ((1, 0), ()))])
+    >>> [many(bench, size) for size in (1, 2, 3, 4, 5)], [many_by_rows(bench, size) for size in (1, 2, 3, 4, 5)]
+    ([1, 11, 12, 6, 0], [1, 11, 12, 6, 0])
+    >>> long = tuple([(x, y) for x in range(6) for y in range(3)])
+    >>> many(long, 3), many_by_rows(long, 3), len(all_layings(long, 3))
+    (61, 61, 61)
+    >>> laying_at(slab, 2, 1), place_of((((0, 0), (1,)), ((1, 0), (1,)), ((2, 0), (1,))))
+    ((((0, 0), (1,)), ((1, 0), (0,)), ((1, 1), (0,))), 2)
+    >>> place_of(laying_at(bench, 3, 5)), laying_at(bench, 3, 0)
+    (5, (((0, 0), (0, 0)), ((0, 1), (0, 0)), ((0, 2), (0, 0)), ((3, 0), (1, 1))))
+    >>> pane = tuple([(x, y) for x in range(7) for y in range(4)])
+    >>> all_layings(pane, 2)
+    raises TooMany()
+    >>> many(pane, 2)
+    raises TooMany()
+    >>> laying_at(slab, 3, 2)
+    raises Unfit()
+"""
+
+POINT_17 = """
+    >>> slab = ((0, 0), (0, 1), (1, 0), (1, 1), (2, 0), (2, 1))
+    >>> tail = ((0, 0), (0, 1), (1, 0), (1, 1), (2, 0), (2, 1), (3, 1), (4, 1), (5, 1))
+    >>> sure_stairs(tail, 3), sure_names(tail, 3), sure_stairs(slab, 3), loose_cells(tail, 3)
+    ((((3, 1), (0, 0)),), ((4, 0),), (), ((0, 1), (1, 0), (1, 1), (2, 0)))
+    >>> sure_name(slab, 3, (0, 0)), sure_name(slab, 3, (2, 1)), sure_name(slab, 3, (1, 1)), sure_name(tail, 3, (4, 1))
+    ((0, 0), (1, 0), None, (4, 0))
+    >>> places(slab, 3, (0, 0))
+    (((0, 0), (0, 0)), ((0, 1), (1, 0)), ((1, 1), (2, 0)))
+    >>> places(tail, 3, (4, 0)), places(slab, 2, (1, 0))
+    ((((3, 1), (3, 1)), ((4, 1), (4, 1)), ((5, 1), (5, 1))), (((0, 1), (1, 0)), ((1, 1), (2, 0))))
+    >>> places(slab, 3, (2, 0))
+    raises NoName(name=(2, 0))
+    >>> sure_name(slab, 3, (3, 0))
+    raises NoCell(cell=(3, 0))
+    >>> sure_names(((0, 0), (0, 1), (1, 0)), 3)
+    raises CanNot()
+    >>> loose_cells(slab, 0)
+    raises Unfit()
+"""
+
+POINT_18 = """
+    >>> flat, bent = (((0, 0), (0, 0)), ((0, 1), (0, 0))), (((0, 0), (1, 0)), ((1, 0), (0, 1)))
+    >>> takes(flat), takes(bent), is_take(flat, ((0, 0),)), is_take(bent, ((0, 0),)), is_take(bent, ((0, 0), (1, 0)))
+    ([(), ((1, 0),)], [(), ((0, 0),)], False, True, True)
+    >>> taken(bent, ((0, 0),)), left_floor(bent, ((0, 0),)), left_floor(flat, ()) == slab
+    ((((1, 0), (0, 1)),), ((1, 0), (2, 0), (2, 1)), True)
+    >>> first_take(bent, (2, 1)), first_take(flat, (2, 1)), first_take(flat, (0, 0))
+    (((0, 0), (1, 0)), ((1, 0),), ((0, 0), (1, 0)))
+    >>> is_take(bent, [(0, 0)]), is_take(bent, ((0, 0), (0, 0))), is_take(bent, ((2, 0),)), is_take(bent, ())
+    (False, False, False, True)
+    >>> taken(flat, ((0, 0),))
+    raises Unfit()
+    >>> left_floor(flat, ((0, 0), (1, 0)))
+    raises CanNot()
+    >>> first_take(flat, (3, 0))
+    raises NoCell(cell=(3, 0))
+"""
+
+POINT_19 = """
+    >>> left, right = ((0, 0), (0, 1)), ((1, 0), (1, 1))
+    >>> joined(left, right), can_join(left, left), can_join(((0, 0),), ((1, 1),)), can_join(left, ((1, 2),))
+    (((0, 0), (0, 1), (1, 0), (1, 1)), False, False, False)
+    >>> upright = laid_together((((0, 0), (1,)),), (((1, 0), (1,)), ((2, 0), (1,))))
+    >>> upright, cuts(upright)
+    ((((0, 0), (1,)), ((1, 0), (1,)), ((2, 0), (1,))), [((0, 0),), ((0, 0), (1, 0))])
+    >>> parted(upright, ((0, 0), (1, 0)))
+    ((((0, 0), (1,)), ((1, 0), (1,))), (((2, 0), (1,)),))
+    >>> is_cut(upright, ((1, 0),)), is_cut(upright, ()), is_cut(upright, [(0, 0)])
+    (False, False, False)
+    >>> parted(upright, ((1, 0),))
+    raises Unfit()
+    >>> laid_together((((0, 0), (1,)),), (((1, 0), (1, 1)),))
+    raises Unfit()
+"""
+
+POINT_20 = """
+    >>> is_so(("can", slab, 2)), is_so(("can", slab, 4)), is_so(("sums", slab, 3, (0,))), is_claim(("sums", slab, 3, ()))
+    (True, False, True, False)
+    >>> is_so(("ahead", slab, 2, (0, 0), (2, 0))), is_so(("ahead", slab, 2, (0, 0), (1, 0))), is_so(("ahead", slab, 2, (2, 0), (0, 0)))
+    (True, False, False)
+    >>> is_reason_for(("can", slab, 2), upright), is_paper_against(("ahead", slab, 2, (0, 0), (1, 0)), upright)
+    (True, False)
+    >>> flatter = (((0, 0), (1,)), ((1, 0), (0,)), ((1, 1), (0,)))
+    >>> is_so(("turns", upright, flatter, 0)), paper_against(("turns", upright, flatter, 0)), is_so(("turns", upright, flatter, 1))
+    (False, (((1, 0), (2, 0)),), True)
+    >>> first_fallen((("can", slab, 2), ("can", slab, 5))), is_claim(("can", slab, 0)), is_claim(("can", [(0, 0)], 1))
+    (1, False, False)
+"""
+
+POINT_21 = r"""
+    >>> ell = ((0, 0), (0, 1), (1, 0))
+    >>> floor_text(ell), floor_text(((-1, 5), (0, 5))), read_floor("at 2 -1\n##\n#.") == ((2, -1), (2, 0), (3, 0))
+    ('at 0 0\n#.\n##\n', 'at -1 5\n##\n', True)
+    >>> laying_text((((0, 0), (1,)), ((1, 0), (1,)))), read_laying("stair 0.0 -\nstair 0.1 -\n")
+    ('stair 0.0 u\nstair 1.0 u\n', (((0, 0), ()), ((0, 1), ())))
+    >>> plan_text((((0, 0), (1, 0)), ((-2, 1), (0, 0)))), read_plan("turn 0.0 1.12"), row_name((0, 2, -1)), row_read("3,3"), row_read("3,,3")
+    ('turn 0.0 1.0\nturn -2.1 0.0\n', (((0, 0), (1, 12)),), '0,2,-1', (3, 3), None)
+    >>> read_floor("at 0 0\n##\n#")
+    raises BadLine(number=2)
+    >>> read_floor("at 0 0\n###\n#.#\n###")
+    raises Unfit()
+    >>> read_laying("stair 1.0 u\nstair 0.0 u")
+    raises BadLine(number=1)
+"""
+
+POINT_22 = """
+    >>> upright = (((0, 0), (1,)), ((1, 0), (1,)), ((2, 0), (1,)))
+    >>> desk = Board(upright)
+    >>> desk.turns_now(), desk.turn(((0, 0), (1, 0))), desk.laying(), desk.turns_now()
+    ((((0, 0), (1, 0)), ((1, 0), (2, 0))), None, (((0, 0), (0,)), ((0, 1), (0,)), ((2, 0), (1,))), (((1, 0), (0, 0)),))
+    >>> mate, right = desk.twin(), (((0, 0), (1,)), ((1, 0), (0,)), ((1, 1), (0,)))
+    >>> desk.back_to(right), desk.laying() == right, desk.plan(), desk.apart_now(), desk == mate
+    (2, True, (((0, 0), (1, 0)), ((1, 0), (0, 0)), ((1, 0), (2, 0))), 1, False)
+    >>> desk.undo(), desk == mate, desk.undo(), desk.plan(), desk.redo(), desk.could(((1, 0), (2, 0)))
+    ('back_to', True, 'turn', (), 'turn', False)
+    >>> desk.follow((((1, 0), (0, 0)), ((1, 0), (2, 0)))), desk.laying() == right, desk == Board(upright)
+    (None, True, False)
+    >>> desk.turn(((0, 0), (5, 0)))
+    raises NoName(name=(5, 0))
+    >>> desk.turn(((0, 0), (2, 0)))
+    raises CanNot()
+    >>> desk.follow((((2, 0), (1, 0)), ((0, 0), (2, 0))))
+    raises Broken(place=1)
+    >>> Board(upright).redo()
+    raises NothingDone()
+"""
+
 # The files whose words the examples use, and the points in the order in which they stand.
-FILES = ("cells", "spaces", "layings", "counts", "rims", "runs", "told", "orders", "peels", "cans", "turns")
-POINTS = (POINT_4, POINT_5, POINT_6, POINT_7, POINT_8, POINT_9, POINT_10, POINT_11, POINT_12, POINT_13, POINT_14)
+FILES = ("cells", "spaces", "layings", "counts", "rims", "runs", "told", "orders", "peels", "cans", "turns", "shapes", "alls",
+         "sures", "takes", "joins", "judge", "texts", "board")
+POINTS = (POINT_4, POINT_5, POINT_6, POINT_7, POINT_8, POINT_9, POINT_10, POINT_11, POINT_12, POINT_13, POINT_14, POINT_15,
+          POINT_16, POINT_17, POINT_18, POINT_19, POINT_20, POINT_21, POINT_22)
 
 
 class Examples(unittest.TestCase):
